@@ -1,0 +1,1 @@
+"""Nightdeal: nights of a telescope, dealt among watchers."""

@@ -1,0 +1,57 @@
+"""The opening of the interface: each name in its file, with its arguments by their places."""
+
+import importlib
+import inspect
+import unittest
+
+FUNCTIONS = {
+    "numbers": [
+        ("is_whole", ["thing"]), ("is_name", ["thing"]), ("is_among", ["thing", "least", "most"]),
+        ("need_number", ["thing", "least", "most"]),
+    ],
+    "stretches": [
+        ("are_stretches", ["thing"]), ("need_stretches", ["thing"]), ("joined", ["one", "other"]),
+        ("met", ["one", "other"]), ("without", ["one", "other"]), ("long_of", ["one"]),
+        ("holds", ["one", "begin", "behind"]), ("first_fit", ["one", "minute", "long"]),
+    ],
+    "marks": [("far", ["one", "other"])],
+}
+# file, class, what it is called with, its methods
+CLASSES = [
+    (
+        "marks", "Mark", ["place", "first", "high", "turn"],
+        [("is_high", ["minute"]), ("high_in", ["begin", "behind"]), ("next_high", ["minute", "long"])],
+    ),
+]
+
+
+def arguments(thing):
+    """The names of a function's arguments, all of which can be handed in by their places."""
+    told = list(inspect.signature(thing).parameters.values())
+    if any(one.kind != one.POSITIONAL_OR_KEYWORD or one.default is not one.empty for one in told):
+        return None
+    return [one.name for one in told]
+
+
+class InterfaceTest(unittest.TestCase):
+
+    def test_functions(self):
+        for file, rows in FUNCTIONS.items():
+            module = importlib.import_module("nightdeal." + file)
+            for name, wanted in rows:
+                with self.subTest(name):
+                    function = getattr(module, name)
+                    self.assertTrue(inspect.isfunction(function))
+                    self.assertEqual(function.__module__, module.__name__)
+                    self.assertEqual(arguments(function), wanted)
+
+    def test_classes(self):
+        for file, name, wanted, methods in CLASSES:
+            module = importlib.import_module("nightdeal." + file)
+            with self.subTest(name):
+                kind = getattr(module, name)
+                self.assertTrue(inspect.isclass(kind))
+                self.assertEqual(kind.__module__, module.__name__)
+                self.assertEqual(arguments(kind), wanted)
+                for method, told in methods:
+                    self.assertEqual(arguments(vars(kind)[method]), ["self"] + told)
