@@ -3,6 +3,7 @@
 from nightdeal.errors import BadNumber
 
 LONGEST_NAME = 8
+MOST_FIGURES = 7
 
 
 def is_whole(thing):
@@ -29,3 +30,13 @@ def need_number(thing, least, most):
     # the thing isn't shown: Python refuses to write out very long numbers
     if not is_among(thing, least, most):
         raise BadNumber("this is no whole number within its bounds")
+
+
+def number_of(word):
+    """The number that a text tells by 1 to 7 figures without a needless nought, or BadNumber."""
+    # not isdigit(), which lets figures beyond 9 by
+    if not 1 <= len(word) <= MOST_FIGURES or not all(["0" <= sign <= "9" for sign in word]):
+        raise BadNumber("this is no number by figures")
+    if len(word) > 1 and word[0] == "0":
+        raise BadNumber("this number has a needless nought")
+    return int(word)

@@ -68,10 +68,12 @@ def overlaps(one, other):
     return out
 
 
-def gaps(one):
-    """All minutes that the stretches don't have, perhaps with an empty stretch at an end."""
-    ends = [0] + [behind for _, behind in one]
-    begins = [begin for begin, _ in one] + [LAST_MINUTE]
+def gaps(one, first, last):
+    """The minutes from first up to last that the stretches don't have, perhaps with an empty stretch at an end.
+
+    The stretches stand within these minutes."""
+    ends = [first] + [behind for _, behind in one]
+    begins = [begin for begin, _ in one] + [last]
     return list(zip(ends, begins))
 
 
@@ -86,7 +88,7 @@ def without(one, other):
     """The minutes of the first that the second has not, as stretches."""
     need_stretches(one)
     need_stretches(other)
-    return overlaps(one, gaps(other))
+    return overlaps(one, gaps(other, 0, LAST_MINUTE))
 
 
 def long_of(one):

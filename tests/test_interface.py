@@ -15,12 +15,29 @@ FUNCTIONS = {
         ("holds", ["one", "begin", "behind"]), ("first_fit", ["one", "minute", "long"]),
     ],
     "marks": [("far", ["one", "other"])],
+    "texts": [("book_text", ["book"]), ("read_book", ["text"])],
 }
 # file, class, what it is called with, its methods
 CLASSES = [
     (
         "marks", "Mark", ["place", "first", "high", "turn"],
         [("is_high", ["minute"]), ("high_in", ["begin", "behind"]), ("next_high", ["minute", "long"])],
+    ),
+    (
+        "sky", "Sky", ["marks", "moons"],
+        [
+            ("mark", ["name"]), ("names", []), ("windows", ["name", "begin", "behind"]),
+            ("turning", ["one", "other", "speed", "settle"]),
+        ],
+    ),
+    ("wishes", "Wish", ["name", "watcher", "mark", "long", "times", "apart", "worth", "nights"], []),
+    (
+        "book", "Book", ["sky", "speed", "settle", "nights", "shares", "wishes"],
+        [
+            ("wish", ["name"]), ("names", []), ("night", ["number"]), ("wanted", ["night"]),
+            ("windows", ["name", "night"]), ("share", ["watcher"]), ("watchers", []),
+            ("turning", ["one", "other"]), ("without", ["name"]),
+        ],
     ),
 ]
 

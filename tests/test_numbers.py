@@ -4,7 +4,7 @@ import unittest
 
 import things
 from nightdeal.errors import BadNumber
-from nightdeal.numbers import is_among, is_name, is_whole, need_number
+from nightdeal.numbers import is_among, is_name, is_whole, need_number, number_of
 
 LETTERS = "abcdefghijklmnopqrstuvwxyz"
 
@@ -86,3 +86,18 @@ class NeedTest(unittest.TestCase):
         for thing in things.other_kinds() + things.far_numbers():
             with self.assertRaises(BadNumber):
                 need_number(thing, 0, 1)
+
+
+class FiguresTest(unittest.TestCase):
+
+    def test_1_to_7_figures(self):
+        for number in [0, 1, 9, 10, 19, 90, 100, 1000000, 1234567, 9999999] + list(range(0, 9999999, 9973)):
+            self.assertEqual(number_of(str(number)), number)
+
+    def test_no_figures(self):
+        for word in (
+            "", " ", "a", "-", "+1", "-1", "-0", "01", "00", "007", "1 ", " 1", "1\n", "1.", "1.0", "1_0", "0x1", "1e1",
+            "10000000", "00000001", "9" * 5000, "\u0661", "\u00b2", "\uff11", "/", ":", "1/", "1:",
+        ):
+            with self.assertRaises(BadNumber):
+                number_of(word)

@@ -1,5 +1,11 @@
 """Things of all kinds, to be handed in where they are none of what is wanted."""
 
+from nightdeal.book import Book
+from nightdeal.errors import DealError
+from nightdeal.marks import Mark
+from nightdeal.sky import Sky
+from nightdeal.wishes import Wish
+
 
 class Thorny:
     """An object that fails when it is compared, counted, gone through or shown."""
@@ -30,3 +36,31 @@ def other_kinds():
 def far_numbers():
     """Whole numbers that are out of all bounds, too long to be shown some of them."""
     return [-(10 ** 5000), -(10 ** 9), -1, 10 ** 9, 10 ** 5000]
+
+
+def own_kinds():
+    """Objects and classes of the program itself."""
+    mark = Mark(0, 0, 1, 1)
+    sky = Sky({"a": mark}, [(mark, 0)])
+    wish = Wish("a", "a", "a", 1, 1, 0, 1, (0, 0))
+    book = Book(sky, 1, 0, [(0, 1)], {"a": 0}, [wish])
+    return [mark, sky, wish, book, Mark, Sky, Wish, Book, DealError, DealError("a")]
+
+
+def all_kinds():
+    """Things of every kind; some of them may be just what is wanted."""
+    plain = [0, 1, 5, "a", "abc", [], [[]], ["a"], [None], [(0, 1)], [1, 1], ("a", "a"), (0, 0), (0, 1), {"a": 1}]
+    return other_kinds() + far_numbers() + own_kinds() + plain
+
+
+def not_numbers():
+    return [thing for thing in all_kinds() if not isinstance(thing, int) or isinstance(thing, bool)]
+
+
+def not_names():
+    return [thing for thing in all_kinds() if not isinstance(thing, str) or thing not in ("a", "abc")]
+
+
+def not_of(kinds):
+    """Things of every kind, but objects of these."""
+    return [thing for thing in all_kinds() if not isinstance(thing, kinds)]
