@@ -16,6 +16,17 @@ FUNCTIONS = {
     ],
     "marks": [("far", ["one", "other"])],
     "texts": [("book_text", ["book"]), ("read_book", ["text"])],
+    "ledger": [
+        ("times_done", ["done", "name"]), ("end_of", ["book", "name", "begin"]),
+        ("free_from", ["book", "done", "name"]), ("used", ["book", "done", "watcher"]),
+    ],
+    "rules": [("wrong", ["book", "done", "night", "looks", "since=None"])],
+    "best": [
+        ("reach", ["book", "done", "night", "since=None"]), ("best", ["book", "done", "night", "since=None"]),
+    ],
+    "blocked": [
+        ("together", ["book", "done", "night", "names"]), ("blocked", ["book", "done", "night", "names"]),
+    ],
 }
 # file, class, what it is called with, its methods
 CLASSES = [
@@ -43,11 +54,11 @@ CLASSES = [
 
 
 def arguments(thing):
-    """The names of a function's arguments, all of which can be handed in by their places."""
+    """A function's arguments, with what stands for those left out; all can be handed in by their places."""
     told = list(inspect.signature(thing).parameters.values())
-    if any(one.kind != one.POSITIONAL_OR_KEYWORD or one.default is not one.empty for one in told):
+    if any(one.kind != one.POSITIONAL_OR_KEYWORD for one in told):
         return None
-    return [one.name for one in told]
+    return [str(one) for one in told]
 
 
 class InterfaceTest(unittest.TestCase):
