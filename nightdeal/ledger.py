@@ -36,3 +36,11 @@ def used(book, done, watcher):
     book.share(watcher)
     wishes = [book.wish(name) for name in book.names()]
     return sum([wish.long * times_done(done, wish.name) for wish in wishes if wish.watcher == watcher])
+
+
+def with_looks(done, looks):
+    """What was done with these looks behind it, names rising."""
+    begins = {name: list(done[name]) for name in done}
+    for name, begin in looks:
+        begins[name] = begins.get(name, []) + [begin]
+    return {name: begins[name] for name in sorted(begins)}

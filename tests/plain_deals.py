@@ -1,5 +1,6 @@
 """Plain ways to tell what may be dealt, minute by minute, for the tests to go by."""
 
+import fractions
 import random
 
 import plain
@@ -110,6 +111,37 @@ class PlainBook:
                 if self.word(done, night, list(ahead), (name, minute), since) is None:
                     yield from self.all_rows(done, night, since, ahead + ((name, minute),))
 
+    def turn_order(self, done):
+        """The watchers' order by the words of F1."""
+        def place(watcher):
+            if self.shares[watcher] == 0:
+                return (1, 0, watcher)
+            return (0, fractions.Fraction(self.used(done, watcher), self.shares[watcher]), watcher)
+        return sorted(self.shares, key=place)
+
+    def fair(self, done, night, since=None):
+        """A fair row, put together by the words of F2."""
+        row = []
+        while True:
+            looks = []
+            for place, watcher in enumerate(self.turn_order(with_looks(done, row))):
+                for name, wish in self.wishes.items():
+                    minute = self.least_begin(done, night, row, name, since)
+                    if wish.watcher == watcher and minute is not None:
+                        looks.append((place, -wish.worth, name, minute))
+            if not looks:
+                return row
+            row.append(min(looks)[2:])
+
+    def without(self, name):
+        parts = (self.sky, self.speed, self.settle, self.nights, self.shares)
+        return PlainBook(*parts, [wish for wish in self.wishes.values() if wish.name != name])
+
+    def rising(self):
+        """The same with its wishes by rising names."""
+        parts = (self.sky, self.speed, self.settle, self.nights, self.shares)
+        return PlainBook(*parts, [self.wishes[name] for name in sorted(self.wishes)])
+
     def worth(self, row):
         return sum(self.wishes[name].worth for name, _ in row)
 
@@ -131,6 +163,14 @@ class PlainBook:
             if tuple(some) not in told:
                 found.append(some)
         return min(found, key=lambda some: (len(some), some)) if found else None
+
+
+def with_looks(done, looks):
+    """What was done with some more looks."""
+    out = {name: list(begins) for name, begins in done.items()}
+    for name, begin in looks:
+        out.setdefault(name, []).append(begin)
+    return out
 
 
 def random_sky(rng, longest):

@@ -27,6 +27,8 @@ FUNCTIONS = {
     "blocked": [
         ("together", ["book", "done", "night", "names"]), ("blocked", ["book", "done", "night", "names"]),
     ],
+    "fair": [("turn_order", ["book", "done"]), ("fair", ["book", "done", "night", "since=None"])],
+    "bounds": [("bound", ["book", "done", "nights"]), ("gone_through", ["book", "done", "nights"])],
 }
 # file, class, what it is called with, its methods
 CLASSES = [
@@ -50,6 +52,15 @@ CLASSES = [
             ("turning", ["one", "other"]), ("without", ["name"]),
         ],
     ),
+    (
+        "season", "Season", ["book"],
+        [
+            ("book_now", []), ("night", []), ("minute", []), ("mark", []), ("done", []), ("planned", []),
+            ("since", []), ("counted", []), ("over", []), ("deal", ["way"]), ("go", ["minute"]), ("cloud", []),
+            ("close", []), ("drop", ["name"]),
+        ],
+    ),
+    ("desk", "Desk", ["text"], [("say", ["line"])]),
 ]
 
 

@@ -1,9 +1,12 @@
 """Things of all kinds, to be handed in where they are none of what is wanted."""
 
 from nightdeal.book import Book
+from nightdeal.desk import Desk
 from nightdeal.errors import DealError
 from nightdeal.marks import Mark
+from nightdeal.season import Season
 from nightdeal.sky import Sky
+from nightdeal.texts import book_text
 from nightdeal.wishes import Wish
 
 
@@ -44,7 +47,8 @@ def own_kinds():
     sky = Sky({"a": mark}, [(mark, 0)])
     wish = Wish("a", "a", "a", 1, 1, 0, 1, (0, 0))
     book = Book(sky, 1, 0, [(0, 1)], {"a": 0}, [wish])
-    return [mark, sky, wish, book, Mark, Sky, Wish, Book, DealError, DealError("a")]
+    own = [mark, sky, wish, book, Season(book), Desk(book_text(book)), DealError("a")]
+    return own + [Mark, Sky, Wish, Book, Season, Desk, DealError]
 
 
 def all_kinds():
